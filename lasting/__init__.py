@@ -1,0 +1,1 @@
+"""What things are under lasting effects."""
