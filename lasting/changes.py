@@ -8,14 +8,7 @@ they are due, before anything is changed.
 from lasting.forms import ABILITY_NUMBERS, BENT, COUNTERS, SIDE, THING_NUMBERS, THING_ROW
 from lasting.forms import COLOURS, KEYWORDS, KINDS, SUBTYPES
 from lasting.forms import all_within, are_parts, copied_things, fits_ranges, is_distinct, is_group, within
-
-NO_ROOM = -1
-BAD_FORM = -2
-NO_THING = -3
-NO_EFFECT = -4
-PART_COUNT = -5
-COPY_PART = -6
-NOT_TOLD = -7
+from lasting.refusals import BAD_FORM, COPY_PART, NO_EFFECT, NO_ROOM, NO_THING, NOT_TOLD, PART_COUNT
 
 MOST_ABILITIES = 16
 MOST_THINGS = 10
@@ -147,6 +140,10 @@ CHANGES = {
     7: freshen_thing,
     8: own_thing,
 }
+
+
+def is_change(number):
+    return number in CHANGES
 
 
 def change(field, number, numbers, rows):

@@ -1,7 +1,8 @@
 """Calls laid out in one list, and their answers laid out in another."""
 
-from lasting.changes import change
+from lasting.changes import change, is_change
 from lasting.field import Field
+from lasting.questions import Known, ask
 
 
 class Reader:
@@ -33,15 +34,25 @@ class Reader:
         return rows
 
 
+def answer_call(known, number, numbers, rows):
+    if not is_change(number):
+        return ask(known, number, numbers, rows)
+    answer = change(known.field, number, numbers, rows)
+    if answer[0] == 0:
+        known.forget()
+    return answer
+
+
 def play(field, calls):
     """Carries out the calls on the field, and gives back their answers, each behind its length."""
+    known = Known(field)
     reader = Reader(calls)
     laid_out = []
     while not reader.at_end():
         number = reader.take()
         numbers = reader.take_row()
         rows = reader.take_rows()
-        answer = change(field, number, numbers, rows)
+        answer = answer_call(known, number, numbers, rows)
         laid_out.append(len(answer))
         laid_out.extend(answer)
     return laid_out

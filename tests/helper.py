@@ -1,5 +1,7 @@
 """Calls written by name, laid out as lasting.duel.answers wants them."""
 
+import copy
+
 from lasting.duel import answers, play
 
 BIG = 1000000000
@@ -51,6 +53,48 @@ def own(n, side):
     return call(8, [n, side], [])
 
 
+def look(n):
+    return call(9, [n], [])
+
+
+def printed(n):
+    return call(10, [n], [])
+
+
+def everything():
+    return call(11, [], [])
+
+
+def order(layer):
+    return call(12, [layer], [])
+
+
+def needs(layer):
+    return call(13, [layer], [])
+
+
+def which(side, row):
+    return call(14, [side], [row])
+
+
+def touched(a, b):
+    return call(15, [a, b], [])
+
+
+def why(n):
+    return call(16, [n], [])
+
+
+def counts():
+    return call(17, [], [])
+
+
+def fit(other=0, whose=0, bent=0, colour=None, head=0, keyword=None, power=None):
+    """A filter; colour and keyword by their own numbers."""
+    named = [0 if value is None else value + 1 for value in (colour, keyword)]
+    return [other, whose, bent, named[0], head, named[1], int(power is not None), power or 0]
+
+
 def join(calls):
     laid_out = []
     for one in calls:
@@ -84,3 +128,12 @@ def last(*calls):
     if len(found) != len(calls):
         raise ValueError("not one answer for each call")
     return found[-1]
+
+
+def state(field):
+    """All that a field holds, as plain values, apart from the field itself."""
+    kept = copy.deepcopy(vars(field))
+    kept["things"] = {number: vars(one) for number, one in kept["things"].items()}
+    kept["abilities"] = [vars(one) for one in kept["abilities"]]
+    kept["loose"] = {number: vars(one) for number, one in kept["loose"].items()}
+    return kept

@@ -1,19 +1,9 @@
 """What the calls leave on the field: printed qualities, effects, time stamps."""
 
-import copy
 import unittest
 
 from lasting.field import Field
-from tests.helper import ANY, BLANK, GROW, ability, bend, count, effect, fade, fresh, own, remove, run_on, thing
-
-
-def state(field):
-    """All that a field holds, as plain values, apart from the field itself."""
-    kept = copy.deepcopy(vars(field))
-    kept["things"] = {number: vars(one) for number, one in kept["things"].items()}
-    kept["abilities"] = [vars(one) for one in kept["abilities"]]
-    kept["loose"] = {number: vars(one) for number, one in kept["loose"].items()}
-    return kept
+from tests.helper import ANY, BLANK, GROW, ability, bend, count, effect, fade, fresh, own, remove, run_on, state, thing
 
 
 def stamps(field):

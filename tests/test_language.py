@@ -12,6 +12,9 @@ import unittest
 
 PACKAGE = pathlib.Path(__file__).resolve().parent.parent / "lasting"
 
+WALKED_AT_ONCE = set("zip enumerate reversed range items keys values".split())
+WALKERS = set("list tuple dict sorted sum any all enumerate zip min max".split())
+CHANGERS = set("append clear extend insert pop remove reverse setdefault update".split())
 ALLOWED_OWN_NAMES = set(
     "len range enumerate zip min max sum abs sorted reversed int str bool list tuple dict set frozenset isinstance "
     "ord repr any all divmod Exception ValueError TypeError KeyError IndexError LookupError ZeroDivisionError "
@@ -43,6 +46,19 @@ def python_methods():
 
 def sources():
     return sorted(PACKAGE.rglob("*.py"))
+
+
+def with_parents(tree):
+    """Each node with the node in which it stands."""
+    for parent in ast.walk(tree):
+        for node in ast.iter_child_nodes(parent):
+            yield node, parent
+
+
+def called_name(node):
+    if not isinstance(node, ast.Call):
+        return None
+    return node.func.id if isinstance(node.func, ast.Name) else getattr(node.func, "attr", None)
 
 
 def bound_names(tree):
@@ -142,6 +158,83 @@ class Language(unittest.TestCase):
             for node in ast.walk(tree):
                 if isinstance(node, ast.Attribute) and node.attr in python_methods():
                     self.assertIn(node.attr, ALLOWED_METHODS_OF_PYTHON | FREE_VALUES, (path, node.lineno))
+
+    def test_functions_and_classes(self):  # L4, L5, L18, L21
+        methods, values = {}, {}
+        for path, text, tree in self.each():
+            for node in ast.walk(tree):
+                where = (path, getattr(node, "lineno", 0))
+                if isinstance(node, ast.arguments):
+                    self.assertEqual((node.vararg, node.kwarg, node.kwonlyargs, node.posonlyargs), (None, None, [], []), where)
+                if isinstance(node, ast.arg):
+                    self.assertIsNone(node.annotation, where)
+                if isinstance(node, ast.FunctionDef):
+                    self.assertIsNone(node.returns, where)
+                if isinstance(node, ast.ClassDef):
+                    self.assertIn(node, tree.body, where)
+                    self.assertEqual(node.bases + node.keywords, [], where)
+                    inner = [one for one in node.body if not isinstance(one, ast.Expr)]
+                    names = [one.name for one in inner if isinstance(one, ast.FunctionDef)]
+                    self.assertEqual(len(inner), len(set(names)), where)
+                    methods.update({name: where for name in names})
+                if isinstance(node, ast.Attribute) and isinstance(node.ctx, ast.Store):
+                    self.assertIsInstance(node.value, ast.Name, where)
+                    values[node.attr] = where
+        self.assertEqual(set(methods) & set(values), set(), "a method here, a value there")
+
+    def test_names_of_the_top_stay_what_they_are(self):  # L15
+        for path, text, tree in self.each():
+            tops = {node.targets[0].id: node.value for node in tree.body if isinstance(node, ast.Assign)}
+            for name, value in tops.items():
+                held = [one for one in ast.walk(value) if one != value]
+                self.assertFalse([one for one in held if isinstance(one, (ast.List, ast.Dict, ast.Call))], (path, name))
+            taken = {alias.name for node in tree.body if isinstance(node, ast.ImportFrom) for alias in node.names}
+            taken |= {node.name for node in tree.body if isinstance(node, (ast.ClassDef, ast.FunctionDef))} | set(tops)
+            for node in ast.walk(tree):
+                if isinstance(node, ast.FunctionDef):
+                    local = {name for name, at in bound_names(ast.Module(node.body, []))} | {arg.arg for arg in node.args.args}
+                    self.assertEqual(local & taken, set(), (path, node.name))
+                if called_name(node) in CHANGERS and isinstance(node.func, ast.Attribute):
+                    self.assertNotIn(getattr(node.func.value, "id", None), tops, (path, node.lineno))
+
+    def test_files_do_not_draw_from_one_another(self):  # L16
+        drawn = {}
+        for path, text, tree in self.each():
+            drawn[path.stem] = {node.module.split(".")[1] for node in tree.body if isinstance(node, ast.ImportFrom)}
+        while drawn:
+            last = [name for name, others in drawn.items() if not others & set(drawn)]
+            self.assertNotEqual(last, [], drawn)
+            drawn = {name: others for name, others in drawn.items() if name not in last}
+
+    def test_comparisons_sets_and_walks(self):  # L20, L23, L24
+        for path, text, tree in self.each():
+            for node, parent in with_parents(tree):
+                where = (path, getattr(node, "lineno", 0))
+                if isinstance(node, ast.Compare) and any(isinstance(one, (ast.Is, ast.IsNot)) for one in node.ops):
+                    self.assertTrue(all(isinstance(one, ast.Constant) for one in node.comparators), where)
+                self.assertNotIsInstance(node, ast.Set, where)
+                if called_name(node) == "set":
+                    self.assertTrue(isinstance(parent, ast.Compare) or called_name(parent) in ("sorted", "len"), where)
+                if called_name(node) in WALKED_AT_ONCE:
+                    walked = isinstance(parent, (ast.For, ast.comprehension)) and parent.iter == node
+                    self.assertTrue(walked or called_name(parent) in WALKERS and parent.args[0] == node, where)
+
+    def test_what_a_loop_walks_is_not_changed_in_it(self):  # L23
+        for path, text, tree in self.each():
+            for loop in ast.walk(tree):
+                if isinstance(loop, ast.For):
+                    walked = {ast.dump(one) for one in ast.walk(loop.iter) if isinstance(one, (ast.Name, ast.Attribute))}
+                    for node in ast.walk(ast.Module(loop.body, [])):
+                        if called_name(node) in CHANGERS and isinstance(node.func, ast.Attribute):
+                            self.assertNotIn(ast.dump(node.func.value), walked, (path, node.lineno))
+
+    def test_numbers_texts_and_errors(self):  # L6, L19, L27
+        for path, text, tree in self.each():
+            for node in ast.walk(tree):
+                where = (path, getattr(node, "lineno", 0))
+                self.assertNotIsInstance(node, (ast.Try, ast.Raise, ast.Pow, ast.JoinedStr), where)
+                if isinstance(node, ast.Constant) and isinstance(node.value, str):
+                    self.assertNotIn("%", node.value, where)
 
 
 if __name__ == "__main__":

@@ -6,7 +6,8 @@ import unittest
 
 from lasting.duel import answers
 from tests.helper import (
-    ANY, BIG, BLANK, GROW, ability, bend, count, effect, fade, fresh, join, last, own, remove, run, thing,
+    ANY, BIG, BLANK, GROW, ability, bend, count, counts, effect, everything, fade, fresh, join, last, look, needs, order,
+    own, printed, remove, run, thing, touched, which, why,
 )
 
 
@@ -20,14 +21,20 @@ class Sealed(list):
 
 
 EVERY_CALL = [
-    ability([], BLANK), ability(ANY, GROW), ability([7], GROW), thing(abilities=[0, 1]), thing(side=5),
-    effect(1, [1], [0, 1], [1]), effect(0, [9], GROW), count(1, 2, 3), bend(1, 1), fresh(1), own(1, 1),
-    fade(1), fade(1), remove(1), remove(1),
+    ability([], BLANK), ability(ANY, GROW), ability([7], GROW), thing(power=2, subtypes=[11, 10], abilities=[0, 1]),
+    thing(side=5), effect(1, [1], [0, 1], [1]), effect(0, [9], GROW), count(1, 2, 3), bend(1, 1), fresh(1), own(1, 1),
+    look(1), look(9), printed(1), printed(9), everything(), order(5), order(9), needs(5), needs(0), which(0, ANY),
+    which(2, ANY), touched(0, 1), touched(1, 1), why(1), why(9), counts(),
+    fade(1), fade(1), remove(1), remove(1), counts(), everything(),
 ]
+# The one ability makes its own thing blank, so the other one isn't there in layer 7.
 EVERY_ANSWER = [
-    2, 0, 0, 2, 0, 1, 1, -2, 2, 0, 1, 1, -2,
-    2, 0, 1, 1, -3, 1, 0, 1, 0, 1, 0, 1, 0,
-    1, 0, 1, -4, 1, 0, 1, -3,
+    2, 0, 0, 2, 0, 1, 1, -2, 2, 0, 1,
+    1, -2, 2, 0, 1, 1, -3, 1, 0, 1, 0, 1, 0, 1, 0,
+    10, 0, 1, 1, -1, 0, 0, 0, 0, 10, 11, 1, -3, 10, 0, 1, 2, 0, 0, 0, 0, 2, 10, 11, 1, -3,
+    5, 0, 1, 1, 1, -1, 3, 0, 1, 0, 1, -2, 1, 0, 1, -2, 2, 0, 1,
+    1, -2, 3, 0, 1, 1, 1, -4, 10, 0, 1, 0, 1, 2, 0, 1, 5, 1, 0, 1, -3, 3, 1, 2, 1,
+    1, 0, 1, -4, 1, 0, 1, -3, 3, 0, 2, 0, 1, 0,
 ]
 
 
@@ -43,11 +50,24 @@ class Layout(unittest.TestCase):
         self.assertEqual(answers([6, 2, 1, 0, 0]), [1, -3])
         self.assertEqual(answers([7, 1, 1, 0]), [1, -3])
         self.assertEqual(answers([8, 2, 1, 0, 0]), [1, -3])
+        self.assertEqual(answers([9, 1, 1, 0]), [1, -3])
+        self.assertEqual(answers([10, 1, 1, 0]), [1, -3])
+        self.assertEqual(answers([11, 0, 0]), [1, 0])
+        self.assertEqual(answers([12, 1, 8, 0]), [1, 0])
+        self.assertEqual(answers([13, 1, 9, 0]), [1, -2])
+        self.assertEqual(answers([14, 1, 1, 1, 8, 0, 0, 0, 0, 0, 0, 0, 0]), [1, 0])
+        self.assertEqual(answers([14, 1, 1, 1, 0]), [1, -2])
+        self.assertEqual(answers([15, 2, 0, 1, 0]), [1, -4])
+        self.assertEqual(answers([16, 1, 1, 0]), [1, -3])
+        self.assertEqual(answers([17, 0, 0]), [3, 0, 0, 0])
 
     def test_calls_one_behind_another(self):
         bare = [1, 4, 0, 0, 0, 0, 5, 0, 0, 0, 0, 0]
         calls = bare + [5, 3, 1, 2, 3, 0] + [6, 2, 1, 1, 0] + [7, 1, 1, 0] + [8, 2, 1, 1, 0] + [2, 1, 1, 0] + bare
         self.assertEqual(answers(calls), [2, 0, 1, 1, 0, 1, 0, 1, 0, 1, 0, 1, 0, 2, 0, 2])
+        calls = [17, 0, 0] + bare + [17, 0, 0] + [11, 0, 0] + [9, 1, 1, 0] + [2, 1, 1, 0] + [11, 0, 0]
+        self.assertEqual(answers(calls),
+                         [3, 0, 0, 0, 2, 0, 1, 3, 1, 0, 0, 5, 0, 1, 0, 0, 0, 8, 0, 0, 0, 0, 0, 0, 0, 0, 1, 0, 1, 0])
 
     def test_every_call_in_one_list(self):
         self.assertEqual(answers(join(EVERY_CALL)), EVERY_ANSWER)
@@ -59,6 +79,8 @@ class Layout(unittest.TestCase):
     def test_two_hundred_calls(self):
         found = run(*([thing(), remove(1)] + [fresh(1)] * 197 + [thing()]))
         self.assertEqual(found, [[0, 1], [0]] + [[-3]] * 197 + [[0, 2]])
+        found = run(*([thing(), effect(0, [1], GROW)] + [fresh(1), everything()] * 99))
+        self.assertEqual(found, [[0, 1], [0, 1]] + [[0], [0, 1, 0, 1, 1]] * 99)
 
     def test_a_long_list(self):
         long_call = ability([0] * 50, *([[0] * 50] * 11))
