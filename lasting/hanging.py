@@ -67,12 +67,12 @@ class Moment:
         return all([first in self.hangs_by_steps_on(second) for second in self.hangs_by_steps_on(first)])
 
     def next_effect(self):
-        places = sorted(range(len(self.left)), key=lambda place: by_stamp(self.left[place]))
-        place = 0
+        ranked = sorted(range(len(self.left)), key=lambda place: by_stamp(self.left[place]))
+        rank = 0
         # There is always a free one: from any effect, steps lead to one that can't be left by steps.
-        while not self.is_free(places[place]):
-            place += 1
-        return self.left[places[place]]
+        while not self.is_free(ranked[rank]):
+            rank += 1
+        return self.left[ranked[rank]]
 
     def pairs(self):
         """The names of the two of each pair of which the first hangs on the second, one behind another."""
